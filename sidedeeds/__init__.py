@@ -1,0 +1,1 @@
+"""Sidedeeds: deeds over a store, side by side."""

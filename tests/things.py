@@ -1,0 +1,93 @@
+"""Things of all kinds, and forms, deeds and rows at hand, made anew the same way each time."""
+
+import copy
+import random
+
+CELLS = "abcdefgh"
+ATOMS = (0, 1, -1, 2, 9, 10, 99, 100, True, False, None, "", "a", "b", "h", "i", "ab", "abcde", "A", " ", "1")
+
+
+def any_thing(dice, deep):
+    """A thing of the kinds that [0.3] lets callers ask of, at most so deep."""
+    if deep == 0 or dice.random() < 0.3:
+        return dice.choice(ATOMS)
+    inner = [any_thing(dice, deep - 1) for _ in range(dice.randrange(4))]
+    return inner if dice.random() < 0.3 else tuple(inner)
+
+
+def some_form(dice, number=99, most=9):
+    cells = sorted(dice.sample(CELLS, dice.randrange(5)))
+    counts = [many for many in range(-most, most + 1) if many != 0]
+    return dice.randint(-number, number), tuple((cell, dice.choice(counts)) for cell in cells)
+
+
+def some_deed(dice, name):
+    cells = sorted(dice.sample(CELLS, dice.randint(1, 4)))
+    return name, dice.randint(1, 9), tuple((cell, some_form(dice)) for cell in cells)
+
+
+def some_row(dice, many):
+    return tuple(some_deed(dice, "d" + CELLS[at % 8] + CELLS[at // 8]) for at in range(many))
+
+
+def places(thing, trail=()):
+    """The way to each thing that stands in a tuple, from the outside in; the whole first."""
+    yield trail
+    if isinstance(thing, tuple):
+        for at, inner in enumerate(thing):
+            yield from places(inner, trail + (at,))
+
+
+def at_place(thing, trail):
+    for at in trail:
+        thing = thing[at]
+    return thing
+
+
+def exchanged(thing, trail, new):
+    """The thing with another one at this place."""
+    if not trail:
+        return new
+    at = trail[0]
+    return thing[:at] + (exchanged(thing[at], trail[1:], new),) + thing[at + 1:]
+
+
+def dice_of(seed):
+    return random.Random(seed)
+
+
+class AskedOfAnyThing:
+    """For a test case of is_form, is_deed or is_row: `asked` is the function, `good` a thing of which it is True."""
+
+    asked = None
+    good = None
+
+    def yes(self, thing):
+        self.assertIs(self.asked(thing), True, repr(thing))
+
+    def no(self, thing):
+        self.assertIs(self.asked(thing), False, repr(thing))
+
+    def test_lists_are_no_tuples_at_any_place(self):
+        for trail in places(self.good):
+            inner = at_place(self.good, trail)
+            if isinstance(inner, tuple):
+                self.no(exchanged(self.good, trail, list(inner)))
+
+    def test_other_kinds_at_any_place(self):
+        self.yes(self.good)
+        for trail in places(self.good):
+            for new in (None, "", "abcde", (0,), [], True, False, 100, -100):
+                self.no(exchanged(self.good, trail, new))
+
+    def test_any_thing_without_an_error_and_unchanged(self):
+        dice = dice_of(1)
+        things = list(ATOMS) + [any_thing(dice, 8) for _ in range(5000)]
+        for trail in places(self.good):
+            things.extend(exchanged(self.good, trail, any_thing(dice, 5)) for _ in range(30))
+        for thing in things:
+            before = copy.deepcopy(thing)
+            told = self.asked(thing)
+            self.assertIsInstance(told, bool)
+            self.assertIs(self.asked(thing), told)
+            self.assertEqual(repr(thing), repr(before))
