@@ -1,4 +1,4 @@
-"""What forms and deeds both ask of things, which may be any."""
+"""What forms, deeds and stores ask of things, which may be any."""
 
 CELLS = "abcdefgh"
 

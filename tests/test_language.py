@@ -84,6 +84,24 @@ class Language(unittest.TestCase):
                     self.assertIn(module, names, (path, node.lineno))
                     self.assertNotIn("*", [alias.name for alias in node.names], (path, node.lineno))
 
+    def test_imports_name_the_file_that_defines(self):
+        defined = {path.stem: {node.name for node in tree.body if isinstance(node, (ast.FunctionDef, ast.ClassDef))}
+                   | {target.id for node in tree.body if isinstance(node, ast.Assign) for target in node.targets}
+                   for path, tree in trees()}
+        for path, tree in trees():
+            for node in tree.body:
+                if isinstance(node, ast.ImportFrom):
+                    for alias in node.names:
+                        self.assertIn(alias.name, defined[node.module.partition(".")[2]], (path, node.lineno))
+
+    def test_no_two_files_import_from_each_other(self):
+        needs = {path.stem: {node.module.partition(".")[2] for node in tree.body if isinstance(node, ast.ImportFrom)}
+                 for path, tree in trees()}
+        while needs:
+            free = {name for name in needs if not needs[name] & set(needs)}
+            self.assertTrue(free, needs)
+            needs = {name: needs[name] for name in needs if name not in free}
+
     def test_module_level(self):
         allowed = (ast.ImportFrom, ast.FunctionDef, ast.ClassDef, ast.Assign)
         for path, tree in trees():

@@ -1,4 +1,4 @@
-"""Things of all kinds, and forms, deeds and rows at hand, made anew the same way each time."""
+"""Things of all kinds, and forms, deeds, rows and stores at hand, made anew the same way each time."""
 
 import copy
 import random
@@ -30,6 +30,30 @@ def some_row(dice, many):
     return tuple(some_deed(dice, "d" + CELLS[at % 8] + CELLS[at // 8]) for at in range(many))
 
 
+def deed(name, wrote, read=""):
+    """A deed that writes these cells, each by a form that reads those."""
+    form = (1, tuple((cell, 1) for cell in read))
+    return name, 1, tuple((cell, form) for cell in wrote)
+
+
+def some_light_row(dice, many):
+    """A row whose deeds have few cells, so that some are tied and some are not."""
+    row = []
+    for at in range(many):
+        cells = sorted(dice.sample(CELLS, dice.choice((1, 1, 2))))
+        parts = []
+        for cell in cells:
+            read = sorted(dice.sample(CELLS, dice.randrange(3)))
+            parts.append((cell, (dice.randint(-9, 9), tuple((other, dice.choice((-2, -1, 1, 2))) for other in read))))
+        row.append(("l" + CELLS[at % 8] + CELLS[at // 8], dice.randint(1, 9), tuple(parts)))
+    return tuple(row)
+
+
+def some_store(dice):
+    cells = sorted(dice.sample(CELLS, dice.randrange(9)))
+    return tuple((cell, dice.choice((-1000, -7, -2, -1, 1, 2, 3, 50, 10 ** 20))) for cell in cells)
+
+
 def places(thing, trail=()):
     """The way to each thing that stands in a tuple, from the outside in; the whole first."""
     yield trail
@@ -57,10 +81,14 @@ def dice_of(seed):
 
 
 class AskedOfAnyThing:
-    """For a test case of is_form, is_deed or is_row: `asked` is the function, `good` a thing of which it is True."""
+    """For a test case of is_form, is_deed, is_row or is_store.
+
+    `asked` is the function, `good` a thing of which it is True, `wrong` what may stand at no place in it.
+    """
 
     asked = None
     good = None
+    wrong = (None, "", "abcde", (0,), [], True, False, 100, -100)
 
     def yes(self, thing):
         self.assertIs(self.asked(thing), True, repr(thing))
@@ -77,7 +105,7 @@ class AskedOfAnyThing:
     def test_other_kinds_at_any_place(self):
         self.yes(self.good)
         for trail in places(self.good):
-            for new in (None, "", "abcde", (0,), [], True, False, 100, -100):
+            for new in self.wrong:
                 self.no(exchanged(self.good, trail, new))
 
     def test_any_thing_without_an_error_and_unchanged(self):

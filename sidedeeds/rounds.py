@@ -1,0 +1,103 @@
+"""Rounds: which deeds of a row can go side by side."""
+
+from sidedeeds.errors import BadRounds
+from sidedeeds.kinds import is_whole_within
+from sidedeeds.stores import done_at_once
+from sidedeeds.ties import ties
+
+
+def rounds(row):
+    return gathered(early_places(row))
+
+
+def late_rounds(row):
+    return gathered(late_places(row))
+
+
+def early_places(row):
+    """For each deed the number of its round in rounds."""
+    places = [0] * len(row)
+    # The ties rise, so the place of one is settled before it is asked for.
+    for one, other in ties(row):
+        places[other] = max(places[other], places[one] + 1)
+    return places
+
+
+def late_places(row):
+    """For each deed the number of its round in late_rounds."""
+    last = max(early_places(row), default=0)
+    places = [last] * len(row)
+    # The ties fall here, so the place of other is settled before it is asked for.
+    for one, other in reversed(ties(row)):
+        places[one] = min(places[one], places[other] - 1)
+    return places
+
+
+def gathered(places):
+    many = max(places, default=-1) + 1
+    return tuple(numbers_at(places, at) for at in range(many))
+
+
+def numbers_at(places, at):
+    return tuple(number for number, place in enumerate(places) if place == at)
+
+
+def fixed(row):
+    early = early_places(row)
+    late = late_places(row)
+    return tuple(number for number in range(len(row)) if early[number] == late[number])
+
+
+def why_not(row, some):
+    place_of = {}
+    for place, numbers in enumerate(some):
+        for number in numbers:
+            if not is_whole_within(number, 0, len(row) - 1):
+                return "none", number
+            if number in place_of:
+                return "twice", number
+            place_of[number] = place
+    for number in range(len(row)):
+        if number not in place_of:
+            return "missing", number
+    return why_not_tied(row, place_of)
+
+
+def why_not_tied(row, place_of):
+    for one, other in ties(row):
+        if place_of[one] == place_of[other]:
+            return "side", one, other
+        if place_of[one] > place_of[other]:
+            return "order", one, other
+    return None
+
+
+def are_rounds(row, some):
+    return why_not(row, some) is None
+
+
+def run_rounds(store, row, some):
+    fault = why_not(row, some)
+    if fault is not None:
+        raise BadRounds(f"the rounds have the fault {fault}")
+    for numbers in some:
+        store = done_at_once(store, tuple(row[number] for number in numbers))
+    return store
+
+
+def narrow(row, many):
+    tied = ties(row)
+    left = list(range(len(row)))
+    told = []
+    while left:
+        waiting = [other for one, other in tied if one in left]
+        free = [number for number in left if number not in waiting]
+        # Rounds of less than one deed would never come to an end.
+        taken = free[:max(1, many)]
+        told.append(tuple(taken))
+        left = [number for number in left if number not in taken]
+    return tuple(told)
+
+
+def widest(row):
+    return max([len(numbers) for numbers in rounds(row)], default=0)

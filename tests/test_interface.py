@@ -1,0 +1,31 @@
+"""The interface section of the document: the names and arguments of the modules that are written."""
+
+import importlib
+import inspect
+import unittest
+
+INTERFACE = {
+    "forms": {"is_form": 1, "plus": 2, "times": 2, "put_in": 2, "worth_of": 2},
+    "deeds": {"is_deed": 1, "is_row": 1, "reads": 1, "writes": 1, "cells_of": 1, "number_of": 2, "writers": 2,
+              "readers": 2},
+    "stores": {"is_store": 1, "worth_at": 2, "done": 2, "run": 2, "trail": 2, "done_at_once": 2},
+    "ties": {"are_tied": 2, "ties": 1, "ahead": 2, "behind": 2, "bare_ties": 1, "longest_chain": 1},
+    "rounds": {"rounds": 1, "late_rounds": 1, "fixed": 1, "why_not": 2, "run_rounds": 3, "narrow": 2, "widest": 1,
+               "are_rounds": 2},
+}
+
+
+class Interface(unittest.TestCase):
+    def test_names_and_arguments(self):
+        for module, functions in INTERFACE.items():
+            held = importlib.import_module("sidedeeds." + module)
+            for name, many in functions.items():
+                with self.subTest(module=module, name=name):
+                    function = getattr(held, name)
+                    self.assertEqual(function.__module__, "sidedeeds." + module)
+                    inspect.signature(function).bind(*range(many))
+                    self.assertEqual(len(inspect.signature(function).parameters), many)
+
+
+if __name__ == "__main__":
+    unittest.main()
