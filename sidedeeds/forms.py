@@ -24,6 +24,10 @@ def form_of(number, many_by_cell):
     return number, tuple((cell, many_by_cell[cell]) for cell in cells)
 
 
+def form_of_cell(cell):
+    return 0, ((cell, 1),)
+
+
 def plus(one, other):
     many_by_cell = dict(one[1])
     for cell, many in other[1]:
@@ -41,8 +45,7 @@ def put_in(form, table):
     number, terms = form
     told = (number, ())
     for cell, many in terms:
-        itself = (0, ((cell, 1),))
-        told = plus(told, times(table.get(cell, itself), many))
+        told = plus(told, times(table.get(cell, form_of_cell(cell)), many))
     return told
 
 

@@ -3,7 +3,7 @@
 from sidedeeds.errors import BadRounds
 from sidedeeds.kinds import is_whole_within
 from sidedeeds.stores import done_at_once
-from sidedeeds.ties import ties
+from sidedeeds.ties import free_of, ties
 
 
 def rounds(row):
@@ -90,10 +90,8 @@ def narrow(row, many):
     left = list(range(len(row)))
     told = []
     while left:
-        waiting = [other for one, other in tied if one in left]
-        free = [number for number in left if number not in waiting]
         # Rounds of less than one deed would never come to an end.
-        taken = free[:max(1, many)]
+        taken = free_of(left, tied)[:max(1, many)]
         told.append(tuple(taken))
         left = [number for number in left if number not in taken]
     return tuple(told)

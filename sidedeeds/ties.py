@@ -12,10 +12,13 @@ def writes_into(one, other):
     return any(cell in touched for cell in writes(one))
 
 
+def pairs_of(many):
+    """All pairs of so many numbers from 0 on, the lesser first; rising."""
+    return [(one, other) for one in range(many) for other in range(one + 1, many)]
+
+
 def ties(row):
-    many = len(row)
-    pairs = [(one, other) for one in range(many) for other in range(one + 1, many)]
-    return tuple((one, other) for one, other in pairs if are_tied(row[one], row[other]))
+    return tuple((one, other) for one, other in pairs_of(len(row)) if are_tied(row[one], row[other]))
 
 
 def ahead(row, number):
@@ -39,6 +42,12 @@ def led_to(steps, number):
             found.add(goal)
     found.discard(number)
     return tuple(sorted(found))
+
+
+def free_of(left, tied):
+    """Those of the numbers left to which none of them is tied ahead, in their order."""
+    waiting = [other for one, other in tied if one in left]
+    return [number for number in left if number not in waiting]
 
 
 def bare_ties(row):

@@ -12,6 +12,10 @@ INTERFACE = {
     "ties": {"are_tied": 2, "ties": 1, "ahead": 2, "behind": 2, "bare_ties": 1, "longest_chain": 1},
     "rounds": {"rounds": 1, "late_rounds": 1, "fixed": 1, "why_not": 2, "run_rounds": 3, "narrow": 2, "widest": 1,
                "are_rounds": 2},
+    "orders": {"normal": 1, "swapped": 2, "swaps": 2, "orders_many": 1, "least_row": 1, "are_same": 2},
+    "maps": {"map_of": 1, "parting_store": 2, "loose_ties": 1, "joined": 3, "are_alike": 2, "commute": 2,
+             "is_idle": 1},
+    "needs": {"needed": 2, "in_vain": 1, "slim": 1, "sources": 2, "flows": 1},
 }
 
 

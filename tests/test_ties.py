@@ -6,7 +6,7 @@ import unittest
 
 from sidedeeds.stores import run
 from sidedeeds.ties import ahead, are_tied, bare_ties, behind, longest_chain, ties
-from things import deed, dice_of, some_light_row, some_row, some_store
+from things import deed, dice_of, some_light_row, some_row, some_store, tied_by_the_words
 
 
 # Each one is tied to the next and to no other one.
@@ -15,12 +15,6 @@ CHAIN = (deed("p", "a"), deed("q", "b", "a"), deed("r", "c", "b"), deed("s", "d"
 FORK = (
     deed("p", "a"), deed("q", "b"), deed("r", "c", "ab"), deed("s", "d", "ab"), deed("t", "h"), deed("u", "e", "cd"))
 ALONE = (deed("p", "a", "h"), deed("q", "b", "h"), deed("r", "c", "gh"))
-
-
-def tied_by_the_words(one, other):
-    wrote = [{part[0] for part in each[2]} for each in (one, other)]
-    read = [{cell for part in each[2] for cell, many in part[1][1]} for each in (one, other)]
-    return bool(wrote[0] & (read[1] | wrote[1]) or wrote[1] & (read[0] | wrote[0]))
 
 
 def ties_by_the_words(row):

@@ -49,6 +49,22 @@ def some_light_row(dice, many):
     return tuple(row)
 
 
+def tied_by_the_words(one, other):
+    wrote = [{part[0] for part in each[2]} for each in (one, other)]
+    read = [{cell for part in each[2] for cell, many in part[1][1]} for each in (one, other)]
+    return bool(wrote[0] & (read[1] | wrote[1]) or wrote[1] & (read[0] | wrote[0]))
+
+
+def renamed_at_random(dice, row):
+    """The row with unlike names of 1 to 4 letters, in no order."""
+    names = []
+    while len(names) < len(row):
+        name = "".join(dice.choice("abz") for _ in range(dice.randint(1, 4)))
+        if name not in names:
+            names.append(name)
+    return tuple((name, ticks, parts) for name, (_, ticks, parts) in zip(names, row))
+
+
 def some_store(dice):
     cells = sorted(dice.sample(CELLS, dice.randrange(9)))
     return tuple((cell, dice.choice((-1000, -7, -2, -1, 1, 2, 3, 50, 10 ** 20))) for cell in cells)
