@@ -34,7 +34,11 @@ def is_row(thing):
         return False
     if not all(is_deed(deed) for deed in thing):
         return False
-    return len({deed[0] for deed in thing}) == len(thing)
+    return are_unlike_names(thing)
+
+
+def are_unlike_names(row):
+    return len({deed[0] for deed in row}) == len(row)
 
 
 def reads(deed):
@@ -49,6 +53,19 @@ def writes(deed):
 
 def cells_of(row):
     return tuple(sorted({cell for deed in row for cell in reads(deed) + writes(deed)}))
+
+
+def written_by(row):
+    return tuple(sorted({cell for deed in row for cell in writes(deed)}))
+
+
+def has_number(row, number):
+    return is_whole_within(number, 0, len(row) - 1)
+
+
+def missing_from(row, numbers):
+    """The least number of a deed that is not among these; None, if all are."""
+    return min([number for number in range(len(row)) if number not in numbers], default=None)
 
 
 def number_of(row, name):

@@ -1,9 +1,9 @@
 """Rounds: which deeds of a row can go side by side."""
 
+from sidedeeds.deeds import has_number, missing_from
 from sidedeeds.errors import BadRounds
-from sidedeeds.kinds import is_whole_within
 from sidedeeds.stores import done_at_once
-from sidedeeds.ties import free_of, ties
+from sidedeeds.ties import early_begins, free_of, late_begins, ties
 
 
 def rounds(row):
@@ -16,21 +16,14 @@ def late_rounds(row):
 
 def early_places(row):
     """For each deed the number of its round in rounds."""
-    places = [0] * len(row)
-    # The ties rise, so the place of one is settled before it is asked for.
-    for one, other in ties(row):
-        places[other] = max(places[other], places[one] + 1)
-    return places
+    # A round is a step of length 1.
+    return early_begins(ties(row), [1] * len(row))
 
 
 def late_places(row):
     """For each deed the number of its round in late_rounds."""
-    last = max(early_places(row), default=0)
-    places = [last] * len(row)
-    # The ties fall here, so the place of other is settled before it is asked for.
-    for one, other in reversed(ties(row)):
-        places[one] = min(places[one], places[other] - 1)
-    return places
+    many = len(gathered(early_places(row)))
+    return late_begins(ties(row), [1] * len(row), many)
 
 
 def gathered(places):
@@ -52,14 +45,14 @@ def why_not(row, some):
     place_of = {}
     for place, numbers in enumerate(some):
         for number in numbers:
-            if not is_whole_within(number, 0, len(row) - 1):
+            if not has_number(row, number):
                 return "none", number
             if number in place_of:
                 return "twice", number
             place_of[number] = place
-    for number in range(len(row)):
-        if number not in place_of:
-            return "missing", number
+    missing = missing_from(row, place_of)
+    if missing is not None:
+        return "missing", missing
     return why_not_tied(row, place_of)
 
 

@@ -50,6 +50,24 @@ def free_of(left, tied):
     return [number for number in left if number not in waiting]
 
 
+def early_begins(tied, lengths):
+    """The least begins from 0 on, if each begins no earlier than all that are tied to it ahead end."""
+    begins = [0] * len(lengths)
+    # The ties rise, so the begin of one is settled before it is asked for.
+    for one, other in tied:
+        begins[other] = max(begins[other], begins[one] + lengths[one])
+    return begins
+
+
+def late_begins(tied, lengths, end):
+    """The greatest begins, if each ends no later than all that are tied to it behind begin, and all by this end."""
+    begins = [end - length for length in lengths]
+    # The ties fall here, so the begin of other is settled before it is asked for.
+    for one, other in reversed(tied):
+        begins[one] = min(begins[one], begins[other] - lengths[one])
+    return begins
+
+
 def bare_ties(row):
     tied = ties(row)
     back = steps_back(tied)

@@ -1,4 +1,4 @@
-"""The interface section of the document: the names and arguments of the modules that are written."""
+"""The interface section of the document: its names and arguments."""
 
 import importlib
 import inspect
@@ -16,7 +16,13 @@ INTERFACE = {
     "maps": {"map_of": 1, "parting_store": 2, "loose_ties": 1, "joined": 3, "are_alike": 2, "commute": 2,
              "is_idle": 1},
     "needs": {"needed": 2, "in_vain": 1, "slim": 1, "sources": 2, "flows": 1},
+    "times": {"earliest": 1, "least_time": 1, "latest": 1, "tight": 1, "planned": 3, "in_turn": 2, "ends_at": 2,
+              "why_bad": 3, "best_time": 2},
+    "merging": {"clashes": 2, "merged": 2, "renamed": 2, "mixed": 3},
+    "texts": {"written_out": 1, "read_in": 1},
 }
+# The methods of the class sidedeeds.runners.Runner, which is made of one store.
+RUNNER = {"begin": 1, "end": 1, "drop": 1, "undo": 0, "store": 0, "going_on": 0, "log": 0, "locked": 0}
 
 
 class Interface(unittest.TestCase):
@@ -29,6 +35,15 @@ class Interface(unittest.TestCase):
                     self.assertEqual(function.__module__, "sidedeeds." + module)
                     inspect.signature(function).bind(*range(many))
                     self.assertEqual(len(inspect.signature(function).parameters), many)
+
+    def test_the_class_runner_has_each_method_itself(self):
+        held = importlib.import_module("sidedeeds.runners").Runner
+        inspect.signature(held).bind(())
+        self.assertEqual(len(inspect.signature(held).parameters), 1)
+        for name, many in RUNNER.items():
+            with self.subTest(name=name):
+                self.assertIn(name, vars(held))
+                self.assertEqual(len(inspect.signature(getattr(held(()), name)).parameters), many)
 
 
 if __name__ == "__main__":

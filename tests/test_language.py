@@ -15,7 +15,9 @@ BUILTINS = set(
 BUILTIN_METHODS = set(
     "append clear copy count endswith extend find get index insert isalnum isalpha isdigit islower isspace isupper "
     "items join keys ljust lower lstrip partition pop remove replace reverse rfind rjust rpartition rsplit rstrip "
-    "setdefault split splitlines startswith strip update upper values zfill bit_length add discard sort".split())
+    "setdefault split splitlines startswith strip update upper values zfill bit_length add discard sort title "
+    "capitalize swapcase casefold center expandtabs removeprefix removesuffix rindex isascii isdecimal isnumeric "
+    "istitle isidentifier isprintable".split())
 BARRED_NAMES = set(
     "register mro elements open input version_info with_traceback add_note attrgetter breakpoint builtins compile "
     "copyright credits delattr dir eval exec exit gc getattr globals hasattr help id importlib license locals "
@@ -152,6 +154,16 @@ class Language(unittest.TestCase):
                     self.assertIn(node.id, BUILTINS, (path, node.lineno))
                 if isinstance(node, ast.Attribute):
                     self.assertIn(node.attr, BUILTIN_METHODS | attributes | methods, (path, node.lineno))
+
+    def test_no_name_is_a_method_and_an_attribute(self):
+        nodes = [node for path, tree in trees() for node in ast.walk(tree)]
+        methods = {inner.name for node in nodes if isinstance(node, ast.ClassDef) for inner in node.body
+                   if isinstance(inner, ast.FunctionDef)}
+        stored = {node.attr for node in nodes if isinstance(node, ast.Attribute) and isinstance(node.ctx, ast.Store)}
+        self.assertIn("__init__", methods)
+        self.assertEqual(methods & stored, set())
+        self.assertEqual((methods | stored) & {name for kind in (str, int, list, dict, set, bytes) for name in dir(kind)
+                                               if not name.startswith("__")}, set())
 
     def test_barred_words(self):
         for path, text in sources():

@@ -49,6 +49,15 @@ def some_light_row(dice, many):
     return tuple(row)
 
 
+def some_loose_row(dice, many, most=9):
+    """A row with few ties, whose deeds take up to so many ticks: each writes one cell and reads at most one."""
+    row = []
+    for letter in "abcdefghij"[:many]:
+        read = dice.choice(("", dice.choice(CELLS)))
+        row.append(("x" + letter, dice.randint(1, most), deed("", dice.choice(CELLS), read)[2]))
+    return tuple(row)
+
+
 def tied_by_the_words(one, other):
     wrote = [{part[0] for part in each[2]} for each in (one, other)]
     read = [{cell for part in each[2] for cell, many in part[1][1]} for each in (one, other)]
